@@ -1,0 +1,101 @@
+package lang
+
+import (
+	"strings"
+
+	"rafter/api"
+	"rafter/whole"
+)
+
+// teller writes a program in its one form, and gathers its lines on the way, so that their Texts are what is written.
+type teller struct {
+	lines []api.Line
+	text  strings.Builder
+	depth int // how many blocks are open
+}
+
+// tell tells all of a program.
+func tell(p *Program) *teller {
+	t := &teller{}
+	t.line("", api.Line{Kind: api.LineVars, Text: declared(p.begins), At: p.at}, ";")
+	t.statements(p.body)
+	return t
+}
+
+// declared answers the declarations as they are written, without what ends them.
+func declared(begins []api.Begin) string {
+	out, between := "vars", " "
+	for _, b := range begins {
+		out += between + b.Name
+		if !b.Any {
+			out += " = " + whole.Text(b.Value)
+		}
+		between = ", "
+	}
+	return out
+}
+
+// write writes a line.
+func (t *teller) write(text string) {
+	t.text.WriteString(strings.Repeat("  ", t.depth) + text + "\n")
+}
+
+// line gathers a line, and writes its Text with what stands ahead of it and behind it.
+func (t *teller) line(ahead string, l api.Line, behind string) {
+	l.Depth = t.depth
+	t.lines = append(t.lines, l)
+	t.write(ahead + l.Text + behind)
+}
+
+// statements tells statements, one by one.
+func (t *teller) statements(l []statement) {
+	for _, s := range l {
+		t.statement(s)
+	}
+}
+
+// statement tells a statement, and all that stands within.
+func (t *teller) statement(s statement) {
+	switch s := s.(type) {
+	case set:
+		t.plain(s, api.LineSet, s.name+" := "+textOf(s.to))
+	case free:
+		t.plain(s, api.LineAny, s.name+" := any")
+	case skip:
+		t.plain(s, api.LineSkip, "skip")
+	case stop:
+		t.plain(s, api.LineStop, "stop")
+	case mark:
+		t.plain(s, api.LineMark, "mark "+s.name)
+	case choose:
+		t.nest(s.blocks, api.Line{Kind: api.LineChoose, Text: "choose"}, api.Line{Kind: api.LineOr, Text: "or"})
+	case loop:
+		t.nest(s.blocks, api.Line{Kind: api.LineLoop, Text: "loop"}, api.Line{})
+	case branch:
+		t.nest(s.blocks, api.Line{Kind: api.LineIf, Text: "if " + s.when.text()}, api.Line{Kind: api.LineElse, Text: "else"})
+	case while:
+		t.nest(s.blocks, api.Line{Kind: api.LineWhile, Text: "while " + s.when.text()}, api.Line{})
+	}
+}
+
+// text answers a condition as it is written.
+func (c condition) text() string { return textOf(c.left) + " " + c.sign + " " + textOf(c.right) }
+
+// plain tells a statement without blocks.
+func (t *teller) plain(s statement, kind int, text string) {
+	t.line("", api.Line{Kind: kind, Text: text, At: s.place()}, ";")
+}
+
+// nest tells blocks: the first one's head is first, every other one's is later, which stands on the line that closes the one ahead of it.
+func (t *teller) nest(l blocks, first, later api.Line) {
+	ahead, head := "", first
+	for _, b := range l {
+		head.At = b.place()
+		t.line(ahead, head, " {")
+		t.depth++
+		t.statements(b.body)
+		t.depth--
+		ahead, head = "} ", later
+	}
+	t.write("}")
+}
