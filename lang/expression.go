@@ -7,44 +7,47 @@ import (
 	"rafter/whole"
 )
 
-// expression is an expression, or a part of one. Brackets are none: they say which parts it has.
-type expression interface {
+// Expression is an expression, or a part of one: a Number, a Variable, a Negation or an Operation. Brackets are none: they say which parts it has. It never changes: what a layer above can reach of it is a copy.
+type Expression interface {
 	// value answers its value at a state, in memory of its own. It throws ErrDivide and ErrTooBig.
 	value(state []api.Whole) api.Whole
 }
 
-// number is a number, never below 0.
-type number struct{ of api.Whole }
+// Number is a number, never below 0.
+type Number struct{ of api.Whole }
 
-// variable is a variable, and which number of a state it is.
-type variable struct {
-	name  string
-	index int
+// Variable is a variable, and which number of a state it is.
+type Variable struct {
+	Name  string
+	Index int
 }
 
-// negation is a minus ahead of an expression.
-type negation struct{ of expression }
+// Negation is a minus ahead of an expression.
+type Negation struct{ Of Expression }
 
-// operation is a sign between two expressions.
-type operation struct {
-	sign        string
-	left, right expression
+// Operation is a sign, one of `+ - * / %`, between two expressions.
+type Operation struct {
+	Sign        string
+	Left, Right Expression
 }
 
-func (n number) value([]api.Whole) api.Whole { return within(whole.Trim(n.of)) }
+// Whole answers the number, in memory of its own.
+func (n Number) Whole() api.Whole { return whole.Trim(n.of) }
 
-func (v variable) value(state []api.Whole) api.Whole { return within(whole.Trim(state[v.index])) }
+func (n Number) value([]api.Whole) api.Whole { return within(n.Whole()) }
 
-func (n negation) value(state []api.Whole) api.Whole { return whole.Neg(n.of.value(state)) }
+func (v Variable) value(state []api.Whole) api.Whole { return within(whole.Trim(state[v.Index])) }
 
-func (o operation) value(state []api.Whole) api.Whole {
-	left := o.left.value(state)
-	return within(o.reckon(left, o.right.value(state)))
+func (n Negation) value(state []api.Whole) api.Whole { return whole.Neg(n.Of.value(state)) }
+
+func (o Operation) value(state []api.Whole) api.Whole {
+	left := o.Left.value(state)
+	return within(o.reckon(left, o.Right.value(state)))
 }
 
 // reckon answers what the sign makes of two numbers.
-func (o operation) reckon(x, y api.Whole) api.Whole {
-	switch o.sign {
+func (o Operation) reckon(x, y api.Whole) api.Whole {
+	switch o.Sign {
 	case "+":
 		return whole.Add(x, y)
 	case "-":
@@ -56,7 +59,7 @@ func (o operation) reckon(x, y api.Whole) api.Whole {
 	if !ok {
 		panic(fault{e: api.ErrDivide})
 	}
-	if o.sign == "/" {
+	if o.Sign == "/" {
 		return q
 	}
 	return r
@@ -78,43 +81,43 @@ const (
 )
 
 // hold answers how firmly x holds together.
-func hold(x expression) int {
-	o, ok := x.(operation)
+func hold(x Expression) int {
+	o, ok := x.(Operation)
 	switch {
 	case !ok:
 		return asAtom
-	case o.sign == "+", o.sign == "-":
+	case o.Sign == "+", o.Sign == "-":
 		return asSum
 	}
 	return asProduct
 }
 
 // textOf answers an expression as it is written.
-func textOf(x expression) string {
+func textOf(x Expression) string {
 	var out strings.Builder
 	write(&out, x)
 	return out.String()
 }
 
 // write writes an expression. What stands on the right must hold together more firmly than the whole, as sums and products are read from the left.
-func write(out *strings.Builder, x expression) {
+func write(out *strings.Builder, x Expression) {
 	switch x := x.(type) {
-	case number:
+	case Number:
 		out.WriteString(whole.Text(x.of))
-	case variable:
-		out.WriteString(x.name)
-	case negation:
+	case Variable:
+		out.WriteString(x.Name)
+	case Negation:
 		out.WriteString("-")
-		writePart(out, x.of, asAtom)
-	case operation:
-		writePart(out, x.left, hold(x))
-		out.WriteString(" " + x.sign + " ")
-		writePart(out, x.right, hold(x)+1)
+		writePart(out, x.Of, asAtom)
+	case Operation:
+		writePart(out, x.Left, hold(x))
+		out.WriteString(" " + x.Sign + " ")
+		writePart(out, x.Right, hold(x)+1)
 	}
 }
 
 // writePart writes a part of an expression, in brackets if it holds together less firmly than it must there.
-func writePart(out *strings.Builder, x expression, least int) {
+func writePart(out *strings.Builder, x Expression, least int) {
 	if hold(x) >= least {
 		write(out, x)
 		return

@@ -13,6 +13,7 @@ import (
 const grammar = `
 program vars decls ; stmts END
 alone expr END
+test cond END
 decls
 decls decl decls2
 decls2

@@ -41,7 +41,7 @@ func (r *reader) signed() api.Whole {
 	if r.token().Kind != api.TokenNumber {
 		r.fail(api.ErrSyntax)
 	}
-	x := r.atom().(number).of
+	x := r.atom().(Number).of
 	if minus {
 		return whole.Neg(x)
 	}
@@ -49,30 +49,30 @@ func (r *reader) signed() api.Whole {
 }
 
 // statement reads a statement.
-func (r *reader) statement() statement {
+func (r *reader) statement() Statement {
 	at := r.token().At
 	switch {
 	case r.take("skip"):
-		return r.ended(skip{spot{at}})
+		return r.ended(Skip{spot{at}})
 	case r.take("stop"):
-		return r.ended(stop{spot{at}})
+		return r.ended(Stop{spot{at}})
 	case r.take("mark"):
-		return r.ended(mark{spot{at}, r.mark()})
+		return r.ended(Mark{spot{at}, r.mark()})
 	case r.take("choose"):
 		return r.choose(at)
 	case r.take("loop"):
-		return loop{blocks{r.block(at)}}
+		return Loop{blocks{r.block(at)}}
 	case r.take("if"):
 		return r.branch(at)
 	case r.take("while"):
 		when := r.condition()
-		return while{when, blocks{r.block(at)}}
+		return While{when, blocks{r.block(at)}}
 	}
 	return r.assignment(at)
 }
 
 // ended reads the end of a statement, and answers the statement.
-func (r *reader) ended(s statement) statement {
+func (r *reader) ended(s Statement) Statement {
 	r.must(";")
 	return s
 }
@@ -86,36 +86,36 @@ func (r *reader) mark() string {
 }
 
 // choose reads the blocks of a choose.
-func (r *reader) choose(at api.Place) statement {
+func (r *reader) choose(at api.Place) Statement {
 	list := blocks{r.block(at)}
 	for {
 		at = r.token().At
 		if !r.take("or") {
-			return choose{list}
+			return Choose{list}
 		}
 		list = append(list, r.block(at))
 	}
 }
 
 // branch reads the condition and the blocks of an if.
-func (r *reader) branch(at api.Place) statement {
+func (r *reader) branch(at api.Place) Statement {
 	when := r.condition()
 	list := blocks{r.block(at)}
 	at = r.token().At
 	if r.take("else") {
 		list = append(list, r.block(at))
 	}
-	return branch{when, list}
+	return If{when, list}
 }
 
 // condition reads two expressions and the sign between them.
-func (r *reader) condition() condition {
+func (r *reader) condition() Condition {
 	left := r.sum()
 	sign := r.token().Text
 	if !r.take("=") {
 		r.must("!=")
 	}
-	return condition{left, sign, r.sum()}
+	return Condition{left, sign, r.sum()}
 }
 
 // block reads a block, which a word at that place opens.
@@ -130,11 +130,11 @@ func (r *reader) block(at api.Place) block {
 }
 
 // assignment reads a variable, and what it becomes.
-func (r *reader) assignment(at api.Place) statement {
-	name := r.variable().name
+func (r *reader) assignment(at api.Place) Statement {
+	name := r.variable().Name
 	r.must(":=")
 	if r.take("any") {
-		return r.ended(free{spot{at}, name})
+		return r.ended(Free{spot{at}, name})
 	}
-	return r.ended(set{spot{at}, name, r.sum()})
+	return r.ended(Set{spot{at}, name, r.sum()})
 }

@@ -106,46 +106,44 @@ func (r *reader) fresh(given []string) string {
 	return name
 }
 
-// alone reads an expression, and the end.
-func (r *reader) alone() expression {
-	out := r.sum()
+// end reads the end, and does not go past it.
+func (r *reader) end() {
 	if r.token().Kind != api.TokenEnd {
 		r.fail(api.ErrSyntax)
 	}
-	return out
 }
 
 // sum reads an expression.
-func (r *reader) sum() expression { return r.chain(r.product, "+", "-") }
+func (r *reader) sum() Expression { return r.chain(r.product, "+", "-") }
 
 // product reads what a sum is made of.
-func (r *reader) product() expression { return r.chain(r.unary, "*", "/", "%") }
+func (r *reader) product() Expression { return r.chain(r.unary, "*", "/", "%") }
 
 // chain reads parts with one of these signs between each two, and puts them together from the left.
-func (r *reader) chain(part func() expression, signs ...string) expression {
+func (r *reader) chain(part func() Expression, signs ...string) Expression {
 	out := part()
 	for sign := r.token().Text; slices.Contains(signs, sign); sign = r.token().Text {
 		r.next++
-		out = operation{sign: sign, left: out, right: part()}
+		out = Operation{Sign: sign, Left: out, Right: part()}
 	}
 	return out
 }
 
 // unary reads what a product is made of.
-func (r *reader) unary() expression {
+func (r *reader) unary() Expression {
 	if r.take("-") {
-		return negation{r.unary()}
+		return Negation{r.unary()}
 	}
 	return r.atom()
 }
 
 // atom reads a number, a variable, or an expression in brackets.
-func (r *reader) atom() expression {
+func (r *reader) atom() Expression {
 	switch t := r.token(); {
 	case t.Kind == api.TokenNumber:
 		x, _ := whole.Parse(t.Text)
 		r.next++
-		return number{x}
+		return Number{x}
 	case r.stands("("):
 		r.opens("(")
 		out := r.sum()
@@ -156,12 +154,12 @@ func (r *reader) atom() expression {
 }
 
 // variable reads the name of a variable.
-func (r *reader) variable() variable {
+func (r *reader) variable() Variable {
 	name := r.name()
 	i := slices.Index(r.vars, name)
 	if i < 0 {
 		r.fail(api.ErrUnknown)
 	}
 	r.next++
-	return variable{name, i}
+	return Variable{name, i}
 }

@@ -2,74 +2,74 @@ package lang
 
 import "rafter/api"
 
-// statement is one of a program's statements.
-type statement interface {
-	// place answers where its first token stands.
-	place() api.Place
+// Statement is one of a program's statements: a Set, a Free, a Skip, a Stop, a Mark, a Choose, a Loop, an If or a While. It never changes.
+type Statement interface {
+	// Place answers where its first token stands.
+	Place() api.Place
 }
 
-// set makes a variable the value of an expression.
-type set struct {
+// Set makes a variable the value of an expression.
+type Set struct {
 	spot
 	name string
-	to   expression
+	To   Expression
 }
 
-// free makes a variable any number.
-type free struct {
-	spot
-	name string
-}
-
-// skip does nothing.
-type skip struct{ spot }
-
-// stop ends the run.
-type stop struct{ spot }
-
-// mark gives the point where it stands a name.
-type mark struct {
+// Free makes a variable any number.
+type Free struct {
 	spot
 	name string
 }
 
-// choose does one of its blocks.
-type choose struct{ blocks }
+// Skip does nothing.
+type Skip struct{ spot }
 
-// loop does its one block any number of times.
-type loop struct{ blocks }
+// Stop ends the run.
+type Stop struct{ spot }
 
-// branch does its first block, if the condition holds, else the second one, if it has one.
-type branch struct {
-	when condition
+// Mark gives the point where it stands a name.
+type Mark struct {
+	spot
+	name string
+}
+
+// Choose does one of its blocks.
+type Choose struct{ blocks }
+
+// Loop does its one block any number of times.
+type Loop struct{ blocks }
+
+// If does its first block, if the condition holds, else the second one, if it has one.
+type If struct {
+	when Condition
 	blocks
 }
 
-// while does its one block as long as the condition holds.
-type while struct {
-	when condition
+// While does its one block as long as the condition holds.
+type While struct {
+	when Condition
 	blocks
 }
 
-// condition says that two expressions have one value, or that they have not.
-type condition struct {
-	left  expression
-	sign  string
-	right expression
+// Condition says that two expressions have one value (its sign is `=`), or that they have not (`!=`).
+type Condition struct {
+	Left  Expression
+	Sign  string
+	Right Expression
 }
 
 // spot is where something stands.
 type spot struct{ at api.Place }
 
-func (s spot) place() api.Place { return s.at }
+func (s spot) Place() api.Place { return s.at }
 
 // block is statements in braces. It stands where the word does that opens it: of a statement's first block the statement's first one, of others `or` or `else`.
 type block struct {
 	spot
-	body []statement
+	body []Statement
 }
 
 // blocks are those of one statement, at least one.
 type blocks []block
 
-func (b blocks) place() api.Place { return b[0].at }
+func (b blocks) Place() api.Place { return b[0].at }

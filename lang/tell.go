@@ -7,9 +7,10 @@ import (
 	"rafter/whole"
 )
 
-// teller writes a program in its one form, and gathers its lines on the way, so that their Texts are what is written.
+// teller writes a program in its one form, and gathers its lines on the way, so that their Texts are what is written, and its statements, so that the numbers of their lines are known.
 type teller struct {
 	lines []api.Line
+	heads []Head
 	text  strings.Builder
 	depth int // how many blocks are open
 }
@@ -48,49 +49,50 @@ func (t *teller) line(ahead string, l api.Line, behind string) {
 }
 
 // statements tells statements, one by one.
-func (t *teller) statements(l []statement) {
+func (t *teller) statements(l []Statement) {
 	for _, s := range l {
 		t.statement(s)
 	}
 }
 
 // statement tells a statement, and all that stands within.
-func (t *teller) statement(s statement) {
+func (t *teller) statement(s Statement) {
+	t.heads = append(t.heads, Head{len(t.lines), s})
 	switch s := s.(type) {
-	case set:
-		t.plain(s, api.LineSet, s.name+" := "+textOf(s.to))
-	case free:
+	case Set:
+		t.plain(s, api.LineSet, s.name+" := "+textOf(s.To))
+	case Free:
 		t.plain(s, api.LineAny, s.name+" := any")
-	case skip:
+	case Skip:
 		t.plain(s, api.LineSkip, "skip")
-	case stop:
+	case Stop:
 		t.plain(s, api.LineStop, "stop")
-	case mark:
+	case Mark:
 		t.plain(s, api.LineMark, "mark "+s.name)
-	case choose:
+	case Choose:
 		t.nest(s.blocks, api.Line{Kind: api.LineChoose, Text: "choose"}, api.Line{Kind: api.LineOr, Text: "or"})
-	case loop:
+	case Loop:
 		t.nest(s.blocks, api.Line{Kind: api.LineLoop, Text: "loop"}, api.Line{})
-	case branch:
+	case If:
 		t.nest(s.blocks, api.Line{Kind: api.LineIf, Text: "if " + s.when.text()}, api.Line{Kind: api.LineElse, Text: "else"})
-	case while:
+	case While:
 		t.nest(s.blocks, api.Line{Kind: api.LineWhile, Text: "while " + s.when.text()}, api.Line{})
 	}
 }
 
 // text answers a condition as it is written.
-func (c condition) text() string { return textOf(c.left) + " " + c.sign + " " + textOf(c.right) }
+func (c Condition) text() string { return textOf(c.Left) + " " + c.Sign + " " + textOf(c.Right) }
 
 // plain tells a statement without blocks.
-func (t *teller) plain(s statement, kind int, text string) {
-	t.line("", api.Line{Kind: kind, Text: text, At: s.place()}, ";")
+func (t *teller) plain(s Statement, kind int, text string) {
+	t.line("", api.Line{Kind: kind, Text: text, At: s.Place()}, ";")
 }
 
 // nest tells blocks: the first one's head is first, every other one's is later, which stands on the line that closes the one ahead of it.
 func (t *teller) nest(l blocks, first, later api.Line) {
 	ahead, head := "", first
 	for _, b := range l {
-		head.At = b.place()
+		head.At = b.Place()
 		t.line(ahead, head, " {")
 		t.depth++
 		t.statements(b.body)

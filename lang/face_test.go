@@ -1,0 +1,152 @@
+package lang_test
+
+import (
+	"slices"
+	"testing"
+
+	"rafter/api"
+	"rafter/lang"
+)
+
+// What the layers above ask of lang, beside the calls that the chapter lists.
+
+// drawnAs answers an expression that was read as a tree, and fails the test where a variable's number is not that of its name.
+func drawnAs(t *testing.T, x lang.Expression) *tree {
+	t.Helper()
+	switch x := x.(type) {
+	case lang.Number:
+		return &tree{leaf: toBig(x.Whole()).String()}
+	case lang.Variable:
+		if x.Index != slices.Index(few, x.Name) {
+			t.Fatalf("P8.7: %q is number %d", x.Name, x.Index)
+		}
+		return &tree{leaf: x.Name}
+	case lang.Negation:
+		return &tree{sign: "-", parts: []*tree{drawnAs(t, x.Of)}}
+	case lang.Operation:
+		return &tree{sign: x.Sign, parts: []*tree{drawnAs(t, x.Left), drawnAs(t, x.Right)}}
+	}
+	t.Fatalf("P8.1: %v is no expression", x)
+	return nil
+}
+
+// equalTree says whether two trees are the same.
+func equalTree(x, y *tree) bool {
+	return x.leaf == y.leaf && x.sign == y.sign && slices.EqualFunc(x.parts, y.parts, equalTree)
+}
+
+func TestReadExpr(t *testing.T) { // P8.1, P8.7: an expression's parts are those that were drawn
+	s := &stream{96}
+	for n := range 2000 {
+		drawn := s.tree(n%6, few)
+		text := s.join(s.tokens(drawn))
+		if len(text) > api.MaxText {
+			continue
+		}
+		x, e, at := lang.ReadExpr(text, few)
+		if e != api.OK || at != (api.Place{}) || !equalTree(drawnAs(t, x), drawn) {
+			t.Fatalf("P8.7: ReadExpr(%q): %v at %v; want %q", text, e, at, drawn.short())
+		}
+	}
+}
+
+func TestReadCond(t *testing.T) { // P8.1, P8.3: two sides and a sign, or what is refused
+	s := &stream{97}
+	taken := 0
+	for n := range 4000 {
+		left, right, sign := s.tree(n%5, few), s.tree(n%4, few), s.pick("=", "!=")
+		l := append(append(s.tokens(left), sign), s.tokens(right)...)
+		spoilt := n%2 == 0
+		text := s.join(l)
+		if spoilt {
+			text, _ = s.lay(s.spoilt(plainWords(l...)), false)
+		}
+		c, e, at := lang.ReadCond(text, few)
+		if wantE, wantAt := verdict("test", text, few); e != wantE || at != wantAt {
+			t.Fatalf("P8.3: ReadCond(%q): %v at %v, want %v at %v", text, e, at, wantE, wantAt)
+		}
+		if e != api.OK && c != (lang.Condition{}) {
+			t.Fatalf("R2: ReadCond(%q) = %v beside %v", text, c, e)
+		}
+		if e != api.OK || spoilt {
+			continue
+		}
+		taken++
+		if c.Sign != sign || !equalTree(drawnAs(t, c.Left), left) || !equalTree(drawnAs(t, c.Right), right) {
+			t.Fatalf("P8.1: ReadCond(%q) is not %q %s %q", text, left.short(), sign, right.short())
+		}
+	}
+	if taken < 1000 {
+		t.Errorf("too few were drawn: %d", taken)
+	}
+	for _, vars := range [][]string{{"x", "x"}, {"2"}} {
+		if c, e, at := lang.ReadCond("x = <", vars); c != (lang.Condition{}) || e != api.ErrArg || at != (api.Place{}) {
+			t.Errorf("P8.7: over %q: %v, %v at %v", vars, c, e, at)
+		}
+	}
+}
+
+// kindOf answers the kind of the line of a statement.
+func kindOf(s lang.Statement) int {
+	switch s.(type) {
+	case lang.Set:
+		return api.LineSet
+	case lang.Free:
+		return api.LineAny
+	case lang.Skip:
+		return api.LineSkip
+	case lang.Stop:
+		return api.LineStop
+	case lang.Mark:
+		return api.LineMark
+	case lang.Choose:
+		return api.LineChoose
+	case lang.Loop:
+		return api.LineLoop
+	case lang.If:
+		return api.LineIf
+	case lang.While:
+		return api.LineWhile
+	}
+	return 0
+}
+
+func TestHeads(t *testing.T) { // P8.5: each statement goes with its line
+	s := &stream{98}
+	for n := range 500 {
+		_, text, _ := s.short(n%2 == 0)
+		p := parsed(t, text)
+		lines, heads := p.Lines(), p.Heads()
+		next := 0
+		for i, l := range lines {
+			if l.Kind == api.LineVars || l.Kind == api.LineOr || l.Kind == api.LineElse {
+				continue
+			}
+			h := heads[next]
+			next++
+			if h.Line != i || h.Place() != l.At || kindOf(h.Statement) != l.Kind {
+				t.Fatalf("P8.5: %q: %v goes with line %d, %v", text, h, i, l)
+			}
+		}
+		if next != len(heads) {
+			t.Fatalf("P8.5: %q has %d statements, want %d", text, len(heads), next)
+		}
+	}
+}
+
+func TestTreeStays(t *testing.T) { // R3: what is reached of a program is a copy
+	p := parsed(t, full)
+	want := picture(p)
+	heads := p.Heads()
+	product := heads[0].Statement.(lang.Set).To.(lang.Operation)
+	mag := product.Left.(lang.Number).Whole().Mag
+	for i := range mag[:cap(mag)] {
+		mag[:cap(mag)][i] = 5
+	}
+	for i := range heads {
+		heads[i] = lang.Head{}
+	}
+	if picture(p) != want || len(p.Heads()) == 0 || p.Heads()[0].Line != 1 {
+		t.Error("R3: a program hangs on what became of its statements")
+	}
+}
