@@ -65,8 +65,8 @@ func shapeOf(x lang.Expression, vars int) shape {
 	return formless{}
 }
 
-// rowOf answers the canonical row that says that both sides of a condition are equal and true; none and false, if one of them has no form or the row is too long.
-func rowOf(c lang.Condition, vars int) ([]api.Whole, bool) {
+// RowOf answers, for the layers above, the canonical row that says that both sides of a condition are equal and true; none and false, if one of them has no form or the row is too long.
+func RowOf(c lang.Condition, vars int) ([]api.Whole, bool) {
 	left, ok := formOf(c.Left, vars)
 	right, both := formOf(c.Right, vars)
 	if !ok || !both {

@@ -10,21 +10,27 @@ import (
 
 // What the layers above ask of lang, beside the calls that the chapter lists.
 
-// drawnAs answers an expression that was read as a tree, and fails the test where a variable's number is not that of its name.
+// drawnAs answers an expression over the few names that was read as a tree.
 func drawnAs(t *testing.T, x lang.Expression) *tree {
+	t.Helper()
+	return drawnOver(t, x, few)
+}
+
+// drawnOver answers an expression over these variables that was read as a tree, and fails the test where a variable's number is not that of its name.
+func drawnOver(t *testing.T, x lang.Expression, vars []string) *tree {
 	t.Helper()
 	switch x := x.(type) {
 	case lang.Number:
 		return &tree{leaf: toBig(x.Whole()).String()}
 	case lang.Variable:
-		if x.Index != slices.Index(few, x.Name) {
+		if x.Index != slices.Index(vars, x.Name) {
 			t.Fatalf("P8.7: %q is number %d", x.Name, x.Index)
 		}
 		return &tree{leaf: x.Name}
 	case lang.Negation:
-		return &tree{sign: "-", parts: []*tree{drawnAs(t, x.Of)}}
+		return &tree{sign: "-", parts: []*tree{drawnOver(t, x.Of, vars)}}
 	case lang.Operation:
-		return &tree{sign: x.Sign, parts: []*tree{drawnAs(t, x.Left), drawnAs(t, x.Right)}}
+		return &tree{sign: x.Sign, parts: []*tree{drawnOver(t, x.Left, vars), drawnOver(t, x.Right, vars)}}
 	}
 	t.Fatalf("P8.1: %v is no expression", x)
 	return nil
@@ -134,6 +140,78 @@ func TestHeads(t *testing.T) { // P8.5: each statement goes with its line
 	}
 }
 
+// sameRow fails the test if statements are not those that were drawn, all that stands within them too.
+func sameRow(t *testing.T, text string, got []lang.Statement, want []*sketch, vars []string) {
+	t.Helper()
+	if len(got) != len(want) {
+		t.Fatalf("P8.1: %q: %d statements in a row, want %d", text, len(got), len(want))
+	}
+	for i, k := range want {
+		if kindOf(got[i]) != k.kind || !sameStatement(t, got[i], k, vars) {
+			t.Fatalf("P8.1: %q: %v is not what was drawn, %v", text, got[i], k)
+		}
+		if len(k.blocks) == 0 {
+			continue
+		}
+		bodies := got[i].(interface{ Bodies() [][]lang.Statement }).Bodies()
+		if len(bodies) != len(k.blocks) {
+			t.Fatalf("P8.1: %q: %d blocks, want %d", text, len(bodies), len(k.blocks))
+		}
+		for j, b := range k.blocks {
+			sameRow(t, text, bodies[j], b, vars)
+		}
+	}
+}
+
+// sameStatement says whether a statement is the one that was drawn, but for what stands in its blocks.
+func sameStatement(t *testing.T, got lang.Statement, k *sketch, vars []string) bool {
+	t.Helper()
+	same := func(x lang.Expression, y *tree) bool { return equalTree(drawnOver(t, x, vars), y) }
+	switch s := got.(type) {
+	case lang.Set:
+		return s.Of == lang.Variable{Name: k.name, Index: slices.Index(vars, k.name)} && same(s.To, k.left)
+	case lang.Free:
+		return s.Of == lang.Variable{Name: k.name, Index: slices.Index(vars, k.name)}
+	case lang.Mark:
+		return s.Name == k.name
+	case lang.If:
+		return s.When.Sign == k.sign && same(s.When.Left, k.left) && same(s.When.Right, k.right)
+	case lang.While:
+		return s.When.Sign == k.sign && same(s.When.Left, k.left) && same(s.When.Right, k.right)
+	}
+	return true
+}
+
+func TestBody(t *testing.T) { // P8.1: a program's statements are those that were drawn
+	s := &stream{99}
+	for n := range 500 {
+		drawn, text, _ := s.short(n%2 == 0)
+		sameRow(t, text, parsed(t, text).Body(), drawn.body, drawn.vars())
+	}
+}
+
+func TestValueOf(t *testing.T) { // P8.8: it is what Value answers
+	s := &stream{100}
+	met := map[api.Errno]int{}
+	for n := range 2000 {
+		text := s.tree(n%5, few).short()
+		x, e, _ := lang.ReadExpr(text, few)
+		if e != api.OK {
+			continue
+		}
+		state := s.wholes(len(few), 2*(n%2))
+		got, e := lang.ValueOf(x, state)
+		want, e2 := lang.Value(text, few, state)
+		met[e]++
+		if e != e2 || !equalWhole(got, want) {
+			t.Fatalf("P8.8: ValueOf(%q) = %v, %v; Value is %v, %v", text, got, e, want, e2)
+		}
+	}
+	if met[api.OK] < 1000 || met[api.ErrDivide] < 50 {
+		t.Errorf("too few of a kind were drawn: %v", met)
+	}
+}
+
 func TestTreeStays(t *testing.T) { // R3: what is reached of a program is a copy
 	p := parsed(t, full)
 	want := picture(p)
@@ -145,6 +223,19 @@ func TestTreeStays(t *testing.T) { // R3: what is reached of a program is a copy
 	}
 	for i := range heads {
 		heads[i] = lang.Head{}
+	}
+	for _, s := range p.Body() {
+		if nest, ok := s.(interface{ Bodies() [][]lang.Statement }); ok {
+			for _, b := range nest.Bodies() {
+				for i := range b[:cap(b)] {
+					b[:cap(b)][i] = lang.Stop{}
+				}
+			}
+		}
+	}
+	body := p.Body()
+	for i := range body[:cap(body)] {
+		body[:cap(body)][i] = lang.Stop{}
 	}
 	if picture(p) != want || len(p.Heads()) == 0 || p.Heads()[0].Line != 1 {
 		t.Error("R3: a program hangs on what became of its statements")

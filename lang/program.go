@@ -131,10 +131,10 @@ func (r *reader) block(at api.Place) block {
 
 // assignment reads a variable, and what it becomes.
 func (r *reader) assignment(at api.Place) Statement {
-	name := r.variable().Name
+	of := r.variable()
 	r.must(":=")
 	if r.take("any") {
-		return r.ended(Free{spot{at}, name})
+		return r.ended(Free{spot{at}, of})
 	}
-	return r.ended(Set{spot{at}, name, r.sum()})
+	return r.ended(Set{spot{at}, of, r.sum()})
 }

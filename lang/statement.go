@@ -1,6 +1,10 @@
 package lang
 
-import "rafter/api"
+import (
+	"slices"
+
+	"rafter/api"
+)
 
 // Statement is one of a program's statements: a Set, a Free, a Skip, a Stop, a Mark, a Choose, a Loop, an If or a While. It never changes.
 type Statement interface {
@@ -11,14 +15,14 @@ type Statement interface {
 // Set makes a variable the value of an expression.
 type Set struct {
 	spot
-	name string
-	To   Expression
+	Of Variable
+	To Expression
 }
 
 // Free makes a variable any number.
 type Free struct {
 	spot
-	name string
+	Of Variable
 }
 
 // Skip does nothing.
@@ -30,7 +34,7 @@ type Stop struct{ spot }
 // Mark gives the point where it stands a name.
 type Mark struct {
 	spot
-	name string
+	Name string
 }
 
 // Choose does one of its blocks.
@@ -41,13 +45,13 @@ type Loop struct{ blocks }
 
 // If does its first block, if the condition holds, else the second one, if it has one.
 type If struct {
-	when Condition
+	When Condition
 	blocks
 }
 
 // While does its one block as long as the condition holds.
 type While struct {
-	when Condition
+	When Condition
 	blocks
 }
 
@@ -73,3 +77,12 @@ type block struct {
 type blocks []block
 
 func (b blocks) Place() api.Place { return b[0].at }
+
+// Bodies answers the statements of each block, for the layers above, in lists of their own.
+func (b blocks) Bodies() [][]Statement {
+	var out [][]Statement
+	for _, one := range b {
+		out = append(out, slices.Clone(one.body))
+	}
+	return out
+}

@@ -60,23 +60,23 @@ func (t *teller) statement(s Statement) {
 	t.heads = append(t.heads, Head{len(t.lines), s})
 	switch s := s.(type) {
 	case Set:
-		t.plain(s, api.LineSet, s.name+" := "+textOf(s.To))
+		t.plain(s, api.LineSet, s.Of.Name+" := "+textOf(s.To))
 	case Free:
-		t.plain(s, api.LineAny, s.name+" := any")
+		t.plain(s, api.LineAny, s.Of.Name+" := any")
 	case Skip:
 		t.plain(s, api.LineSkip, "skip")
 	case Stop:
 		t.plain(s, api.LineStop, "stop")
 	case Mark:
-		t.plain(s, api.LineMark, "mark "+s.name)
+		t.plain(s, api.LineMark, "mark "+s.Name)
 	case Choose:
 		t.nest(s.blocks, api.Line{Kind: api.LineChoose, Text: "choose"}, api.Line{Kind: api.LineOr, Text: "or"})
 	case Loop:
 		t.nest(s.blocks, api.Line{Kind: api.LineLoop, Text: "loop"}, api.Line{})
 	case If:
-		t.nest(s.blocks, api.Line{Kind: api.LineIf, Text: "if " + s.when.text()}, api.Line{Kind: api.LineElse, Text: "else"})
+		t.nest(s.blocks, api.Line{Kind: api.LineIf, Text: "if " + s.When.text()}, api.Line{Kind: api.LineElse, Text: "else"})
 	case While:
-		t.nest(s.blocks, api.Line{Kind: api.LineWhile, Text: "while " + s.when.text()}, api.Line{})
+		t.nest(s.blocks, api.Line{Kind: api.LineWhile, Text: "while " + s.When.text()}, api.Line{})
 	}
 }
 
