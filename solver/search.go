@@ -5,6 +5,7 @@ import (
 
 	"rafter/api"
 	"rafter/graph"
+	"rafter/queue"
 	"rafter/ratio"
 	"rafter/span"
 	"rafter/whole"
@@ -13,7 +14,7 @@ import (
 // search looks for samples, from those of the beginning on, until no pair waits.
 type search struct {
 	spots []spot // of each point
-	waits queue[pair]
+	waits queue.Queue[pair]
 	looks int
 }
 
@@ -70,7 +71,7 @@ func first(state []api.Whole, v int) api.Sample {
 // spread works off the pairs that wait. ErrTooBig like offer.
 func (s *search) spread() api.Errno {
 	for {
-		p, ok := s.waits.take()
+		p, ok := s.waits.Take()
 		if !ok {
 			return api.OK
 		}
@@ -107,7 +108,7 @@ func (s *search) offer(point int, x api.Sample) api.Errno {
 		return api.ErrTooBig
 	}
 	at.bounds.widen(misses)
-	s.waits.put(pair{point, len(at.samples)})
+	s.waits.Put(pair{point, len(at.samples)})
 	at.samples = append(at.samples, x)
 	return api.OK
 }
