@@ -8,7 +8,7 @@ import (
 	"rafter/whole"
 )
 
-// bounds are rows that all samples of a point meet, and of which all others that they meet are sums of multiples: so a state lies in the samples' hull just if it meets each of the bounds. A span can't be asked that, for the hull of a point's first samples may be too big where that of all is not.
+// bounds are rows that all samples of a point meet, and of which all others that they meet are sums of multiples: so numbers lie in the samples' hull just if they meet each of the bounds. A span can't be asked that, for the hull of a point's first samples may be too big where that of all is not.
 //
 // Each of the rows has lead in a column of its own, in which all others have 0; the numbers in the remaining columns, one column a sample, are determinants of the samples in these. So none is longer than determinants are.
 type bounds struct {
@@ -16,7 +16,7 @@ type bounds struct {
 	lead api.Whole
 }
 
-// boundsOfNone answers the bounds of no sample over n variables: each row is a sum of multiples of these.
+// boundsOfNone answers the bounds of no sample of n numbers: each row is a sum of multiples of these.
 func boundsOfNone(n int) bounds {
 	b := bounds{lead: whole.Of(1)}
 	for c := range n + 1 {
@@ -27,11 +27,11 @@ func boundsOfNone(n int) bounds {
 	return b
 }
 
-// misses answers of each row by how much a state misses it: 0, where it is met.
-func (b *bounds) misses(state []api.Whole) []api.Whole {
+// misses answers of each row by how much a sample's numbers miss it: 0, where it is met.
+func (b *bounds) misses(numbers []api.Whole) []api.Whole {
 	var out []api.Whole
 	for _, row := range b.rows {
-		miss, _ := affine.Left(row, state) // a row always fits the state
+		miss, _ := affine.Left(row, numbers) // a row always fits the numbers
 		out = append(out, miss)
 	}
 	return out

@@ -9,13 +9,13 @@ import (
 	"rafter/whole"
 )
 
-// deed is what an edge does to a state.
+// deed is what an edge does to a sample's numbers: those of the state, and any others behind them.
 type deed interface {
-	// image answers what becomes of a state; value is the number that is put in where any number is. The state stays as it is.
-	image(state []api.Whole, value int) []api.Whole
+	// image answers what becomes of the numbers; value is the one that is put in where any number is. They stay as they are.
+	image(numbers []api.Whole, value int) []api.Whole
 }
 
-// keep leaves a state as it is.
+// keep leaves the numbers as they are.
 type keep struct{}
 
 // set makes a variable what a form tells.
@@ -38,32 +38,33 @@ func deedOf(e api.Edge) deed {
 	return keep{}
 }
 
-func (keep) image(state []api.Whole, _ int) []api.Whole { return state }
+func (keep) image(numbers []api.Whole, _ int) []api.Whole { return numbers }
 
-func (d set) image(state []api.Whole, _ int) []api.Whole {
+func (d set) image(numbers []api.Whole, _ int) []api.Whole {
+	state := numbers[:len(d.form)-1]
 	x, _ := affine.Value(d.form, state) // an edge's form always fits the state
-	return having(state, d.v, x)
+	return having(numbers, d.v, x)
 }
 
-func (d free) image(state []api.Whole, value int) []api.Whole {
-	return having(state, d.v, whole.Of(value))
+func (d free) image(numbers []api.Whole, value int) []api.Whole {
+	return having(numbers, d.v, whole.Of(value))
 }
 
-// images goes through what becomes of a state, each image behind the number that was put in. Where any number is, these are 0 and 1: the line through these two images holds those of all others.
-func images(d deed, state []api.Whole) iter.Seq2[int, []api.Whole] {
+// images goes through what becomes of a sample's numbers, each image behind the number that was put in. Where any number is, these are 0 and 1: the line through these two images holds those of all others.
+func images(d deed, numbers []api.Whole) iter.Seq2[int, []api.Whole] {
 	return func(yield func(int, []api.Whole) bool) {
-		if !yield(0, d.image(state, 0)) {
+		if !yield(0, d.image(numbers, 0)) {
 			return
 		}
 		if _, ok := d.(free); ok {
-			yield(1, d.image(state, 1))
+			yield(1, d.image(numbers, 1))
 		}
 	}
 }
 
-// having answers the state with x as the variable number v.
-func having(state []api.Whole, v int, x api.Whole) []api.Whole {
-	out := slices.Clone(state)
+// having answers the numbers with x as the variable number v.
+func having(numbers []api.Whole, v int, x api.Whole) []api.Whole {
+	out := slices.Clone(numbers)
 	out[v] = x
 	return out
 }

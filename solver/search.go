@@ -11,17 +11,50 @@ import (
 	"rafter/whole"
 )
 
+// Kept is what a search keeps of a sample.
+type Kept[T any] interface {
+	// Numbers answers all the sample's numbers, those of the state ahead of any others, in the memory in which they are kept.
+	Numbers() []api.Whole
+	// Next answers what is kept of x, a sample that came from this one. Its State are all its numbers.
+	Next(x api.Sample) T
+}
+
+// Search answers what is found of each point, when point 0 has these samples, each of n numbers, and how many looks at an edge were made. The variables are a sample's first numbers; all others stay what they were in the beginning. What is answered lies in the memory in which it was found. ErrArg, if g is nil, n is below the number of variables or above 2 MaxVars, or one of the samples has not n numbers; ErrTooBig, if a sample has a number of more than MaxLimbs limbs, or the hull of a point's samples is too big.
+func Search[T Kept[T]](g *graph.Graph, begins []T, n int) (Points[T], int, api.Errno) {
+	unfit := func(x T) bool { return len(x.Numbers()) != n }
+	if pointless(g) || n < len(g.Vars()) || n > 2*api.MaxVars || slices.ContainsFunc(begins, unfit) {
+		return nil, 0, api.ErrArg
+	}
+	s := newSearch[T](g, n)
+	for _, x := range begins {
+		if e := s.offer(0, x); e != api.OK {
+			return nil, 0, e
+		}
+	}
+	if e := s.spread(); e != api.OK {
+		return nil, 0, e
+	}
+	points, e := s.found(n)
+	if e != api.OK {
+		return nil, 0, e
+	}
+	return points, s.looks, api.OK
+}
+
+// pointless says whether there is no point to begin at: g is nil, or no call made it.
+func pointless(g *graph.Graph) bool { return g == nil || g.Points() == 0 }
+
 // search looks for samples, from those of the beginning on, until no pair waits.
-type search struct {
-	spots []spot // of each point
+type search[T Kept[T]] struct {
+	spots []spot[T] // of each point
 	waits queue.Queue[pair]
 	looks int
 }
 
 // spot is a point: the ways that lead from it, by rising numbers of their edges, and its samples.
-type spot struct {
+type spot[T Kept[T]] struct {
 	ways    []way
-	samples []api.Sample
+	samples []T
 	bounds  bounds // of the samples
 }
 
@@ -34,10 +67,9 @@ type way struct {
 // pair is a point, and the index of a sample of it.
 type pair struct{ point, index int }
 
-// newSearch answers the search through a graph, ahead of the first sample.
-func newSearch(g *graph.Graph) *search {
-	s := &search{spots: make([]spot, g.Points())}
-	n := len(g.Vars())
+// newSearch answers the search through a graph for samples of n numbers, ahead of the first one.
+func newSearch[T Kept[T]](g *graph.Graph, n int) *search[T] {
+	s := &search[T]{spots: make([]spot[T], g.Points())}
 	for i := range s.spots {
 		s.spots[i].bounds = boundsOfNone(n)
 	}
@@ -48,28 +80,8 @@ func newSearch(g *graph.Graph) *search {
 	return s
 }
 
-// begin gives point 0 its samples: one with 0 for each variable that begins with any number, and for each of these variables one in which it is 1. ErrTooBig like offer.
-func (s *search) begin(begins []api.Begin) api.Errno {
-	var state []api.Whole
-	for _, b := range begins {
-		state = append(state, b.Value) // 0 of one that begins with any number
-	}
-	e := s.offer(0, first(state, -1))
-	for v, b := range begins {
-		if b.Any && e == api.OK {
-			e = s.offer(0, first(having(state, v, whole.Of(1)), v))
-		}
-	}
-	return e
-}
-
-// first answers a sample of the beginning, in which the variable v is 1 (none, if v is -1).
-func first(state []api.Whole, v int) api.Sample {
-	return api.Sample{State: state, Point: -1, Index: -1, Edge: -1, Value: v}
-}
-
 // spread works off the pairs that wait. ErrTooBig like offer.
-func (s *search) spread() api.Errno {
+func (s *search[T]) spread() api.Errno {
 	for {
 		p, ok := s.waits.Take()
 		if !ok {
@@ -82,14 +94,14 @@ func (s *search) spread() api.Errno {
 }
 
 // follow looks at each edge that leads from a pair's point, and offers the sample's images to the edge's end. ErrTooBig like offer.
-func (s *search) follow(p pair) api.Errno {
+func (s *search[T]) follow(p pair) api.Errno {
 	from := s.spots[p.point]
-	state := from.samples[p.index].State
+	x := from.samples[p.index]
 	for _, w := range from.ways {
 		s.looks++
-		for value, image := range images(w.deed, state) {
-			e := s.offer(w.to, api.Sample{State: image, Point: p.point, Index: p.index, Edge: w.edge, Value: value})
-			if e != api.OK {
+		for value, image := range images(w.deed, x.Numbers()) {
+			next := x.Next(api.Sample{State: image, Point: p.point, Index: p.index, Edge: w.edge, Value: value})
+			if e := s.offer(w.to, next); e != api.OK {
 				return e
 			}
 		}
@@ -98,13 +110,13 @@ func (s *search) follow(p pair) api.Errno {
 }
 
 // offer makes x the point's next sample, and lets it wait, if it does not lie in the hull of those that are there. ErrTooBig, if it does not, and a number of it is too long: samples stay, so there is no need to go on.
-func (s *search) offer(point int, x api.Sample) api.Errno {
+func (s *search[T]) offer(point int, x T) api.Errno {
 	at := &s.spots[point]
-	misses := at.bounds.misses(x.State)
+	misses := at.bounds.misses(x.Numbers())
 	if !slices.ContainsFunc(misses, other) {
 		return api.OK
 	}
-	if slices.ContainsFunc(x.State, tooLong) {
+	if slices.ContainsFunc(x.Numbers(), tooLong) {
 		return api.ErrTooBig
 	}
 	at.bounds.widen(misses)
@@ -113,24 +125,24 @@ func (s *search) offer(point int, x api.Sample) api.Errno {
 	return api.OK
 }
 
-// found answers what was found of each point, over n variables; ErrTooBig, if the hull of one is too big.
-func (s *search) found(n int) ([]found, api.Errno) {
-	var out []found
+// found answers what was found of each point, over n numbers; ErrTooBig, if the hull of one is too big.
+func (s *search[T]) found(n int) (Points[T], api.Errno) {
+	var out Points[T]
 	for _, at := range s.spots {
-		hull, e := span.Points(n, states(at.samples))
+		hull, e := span.Points(n, spacePoints(at.samples))
 		if e != api.OK {
 			return nil, e
 		}
-		out = append(out, found{at.samples, hull})
+		out = append(out, Found[T]{at.samples, hull})
 	}
 	return out, api.OK
 }
 
-// states answers the samples' states as points of space.
-func states(samples []api.Sample) [][]api.Ratio {
+// spacePoints answers samples as points of space.
+func spacePoints[T Kept[T]](samples []T) [][]api.Ratio {
 	out := make([][]api.Ratio, len(samples))
 	for i, x := range samples {
-		for _, y := range x.State {
+		for _, y := range x.Numbers() {
 			out[i] = append(out[i], ratio.From(y))
 		}
 	}
