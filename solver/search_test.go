@@ -100,6 +100,18 @@ func TestSearch(t *testing.T) { // P12.2, of more numbers than there are variabl
 	}
 }
 
+func TestSearchMovesTheFirst(t *testing.T) { // P12.2: a form is of the variables, whatever stands behind them
+	points, _, e := solver.Search(graphed(t, "vars x, y; x := 10 * x + y; y := 2 * x + 7;"), tallies("1 2 5 9"), 4)
+	if e != api.OK {
+		t.Fatalf("P12.2: %v", e)
+	}
+	for point, want := range []string{"1 2 5 9 ", "12 2 5 9 +", "12 31 5 9 ++"} {
+		if got := sayTallies(points[point].Samples); got != want {
+			t.Errorf("P12.2: %d: %s; want %s", point, got, want)
+		}
+	}
+}
+
 func TestSearchFromNothing(t *testing.T) { // P12.2: of no sample comes none
 	points, looks, e := solver.Search[tally](graphed(t, "vars x; loop { x := x + 1; }"), nil, 1)
 	if e != api.OK || looks != 0 || len(points) != 5 {
