@@ -12,8 +12,9 @@ import (
 // builder makes a graph by going through a program once. Each of its ways through a statement begins at a point, and answers the one at which the statement ends.
 type builder struct {
 	*Graph
-	vars int
-	long bool // whether a form has a number that is too long
+	vars   int
+	starts []int // where each statement begins
+	long   bool  // whether a form has a number that is too long
 }
 
 // way goes through a statement from a point on.
@@ -27,6 +28,7 @@ func newBuilder(p *lang.Program) *builder {
 // row goes through statements, each of which begins where the one ahead of it ends.
 func (b *builder) row(l []lang.Statement, from int) int {
 	for _, s := range l {
+		b.starts = append(b.starts, from)
 		through := b.way(s)
 		from = through(s, from)
 	}

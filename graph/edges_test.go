@@ -132,6 +132,11 @@ func TestDrawnGraphs(t *testing.T) { // P10.1, P10.2
 		}
 		g := graphed(t, text)
 		sameGraph(t, text, g, m)
+		traced, starts, e := graph.Trace(parsed(t, text))
+		if e != api.OK || !slices.Equal(starts, m.starts) {
+			t.Fatalf("P10.1: the statements of %q begin at %v, want %v", text, starts, m.starts)
+		}
+		sameGraph(t, text, traced, m)
 		if want := parsed(t, text).Begins(); !reflect.DeepEqual(g.Begins(), want) {
 			t.Fatalf("P10.2: Begins of %q: %v, want %v", text, g.Begins(), want)
 		}
@@ -238,6 +243,9 @@ func TestVarsAndBegins(t *testing.T) { // P10.2
 func TestNoProgram(t *testing.T) { // P10.1
 	if g, e := graph.Of(nil); g != nil || e != api.ErrArg {
 		t.Errorf("P10.1: Of(nil): %v, %v", g, e)
+	}
+	if g, starts, e := graph.Trace(nil); g != nil || starts != nil || e != api.ErrArg {
+		t.Errorf("P10.1: Trace(nil): %v, %v, %v", g, starts, e)
 	}
 	graph.Of(&lang.Program{}) // R1: it ends, whatever it answers
 }

@@ -19,6 +19,7 @@ type model struct {
 	sides  [][]string // of each edge: the texts of what is reckoned of it
 	marked []int      // of each mark, in the order of the text, its point
 	given  []string   // the marks
+	starts []int      // where each statement begins, in the order of the text
 	stops  map[int]bool
 	long   bool
 }
@@ -45,6 +46,7 @@ func (m *model) edge(k *sketch, from, to int, e api.Edge, sides ...string) {
 
 func (m *model) row(l []*sketch, p int) int {
 	for _, k := range l {
+		m.starts = append(m.starts, p)
 		p = m.statement(k, p)
 	}
 	return p

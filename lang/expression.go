@@ -34,6 +34,14 @@ type Operation struct {
 // Whole answers the number, in memory of its own.
 func (n Number) Whole() api.Whole { return whole.Trim(n.of) }
 
+// NumberOf answers the expression that says x, for the layers above: a number, with a minus ahead of it if x is below 0.
+func NumberOf(x api.Whole) Expression {
+	if whole.Sign(x) < 0 {
+		return Negation{Number{whole.Neg(x)}}
+	}
+	return Number{whole.Trim(x)}
+}
+
 func (n Number) value([]api.Whole) api.Whole { return within(n.Whole()) }
 
 func (v Variable) value(state []api.Whole) api.Whole { return within(whole.Trim(state[v.Index])) }

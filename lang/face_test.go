@@ -153,7 +153,7 @@ func sameRow(t *testing.T, text string, got []lang.Statement, want []*sketch, va
 		if len(k.blocks) == 0 {
 			continue
 		}
-		bodies := got[i].(interface{ Bodies() [][]lang.Statement }).Bodies()
+		bodies := got[i].(lang.Nest).Bodies()
 		if len(bodies) != len(k.blocks) {
 			t.Fatalf("P8.1: %q: %d blocks, want %d", text, len(bodies), len(k.blocks))
 		}
@@ -225,7 +225,7 @@ func TestTreeStays(t *testing.T) { // R3: what is reached of a program is a copy
 		heads[i] = lang.Head{}
 	}
 	for _, s := range p.Body() {
-		if nest, ok := s.(interface{ Bodies() [][]lang.Statement }); ok {
+		if nest, ok := s.(lang.Nest); ok {
 			for _, b := range nest.Bodies() {
 				for i := range b[:cap(b)] {
 					b[:cap(b)][i] = lang.Stop{}
@@ -239,5 +239,72 @@ func TestTreeStays(t *testing.T) { // R3: what is reached of a program is a copy
 	}
 	if picture(p) != want || len(p.Heads()) == 0 || p.Heads()[0].Line != 1 {
 		t.Error("R3: a program hangs on what became of its statements")
+	}
+}
+
+// turned answers statements, of which do answers what becomes of those in each block, from within; and writes over the lists that it hands in.
+func turned(l []lang.Statement, do func([]lang.Statement) []lang.Statement) []lang.Statement {
+	var out []lang.Statement
+	for _, s := range l {
+		if nest, ok := s.(lang.Nest); ok {
+			bodies := nest.Bodies()
+			for i := range bodies {
+				bodies[i] = do(turned(bodies[i], do))
+			}
+			s = nest.With(bodies)
+			for i := range bodies {
+				for j := range bodies[i] {
+					bodies[i][j] = lang.Stop{}
+				}
+				bodies[i] = nil
+			}
+		}
+		out = append(out, s)
+	}
+	return out
+}
+
+func TestWith(t *testing.T) { // P8.5, R3: a program with the same statements tells the same; with none in its blocks it has none there; and the one that it came from stays
+	s := &stream{101}
+	for n := range 300 {
+		_, text, _ := s.short(n%2 == 0)
+		p := parsed(t, text)
+		was := picture(p)
+		body := turned(p.Body(), slices.Clone)
+		same := p.With(body)
+		emptied := p.With(turned(body, func([]lang.Statement) []lang.Statement { return nil }))
+		for i := range body {
+			body[i] = lang.Stop{}
+		}
+		if picture(p) != was || picture(same) != was {
+			t.Fatalf("R3: %q: %s; with the same statements %s", text, was, picture(same))
+		}
+		var want []api.Line
+		for _, l := range p.Lines() {
+			if l.Depth == 0 {
+				want = append(want, l)
+			}
+		}
+		if got := emptied.Lines(); !slices.Equal(got, want) {
+			t.Fatalf("P8.5: %q: with empty blocks %v; want %v", text, got, want)
+		}
+	}
+}
+
+func TestNumberOf(t *testing.T) { // P8.6, P8.8: the expression says its number, and is one that the reader makes
+	s := &stream{102}
+	for _, x := range append(s.wholes(200, 5), api.Whole{}, api.Whole{Neg: true}, api.Whole{Neg: true, Mag: []uint32{7, 0}}) {
+		text := toBig(x).String()
+		made := lang.NumberOf(x)
+		read, e, at := lang.ReadExpr(text, nil)
+		if e != api.OK || !equalTree(drawnAs(t, made), drawnAs(t, read)) {
+			t.Fatalf("P8.7: %s: %v at %v", text, e, at)
+		}
+		for i := range x.Mag {
+			x.Mag[i] = 99
+		}
+		if got, e := lang.ValueOf(made, nil); e != api.OK || toBig(got).String() != text {
+			t.Fatalf("P8.8: %s: %s, %v", text, toBig(got), e)
+		}
 	}
 }

@@ -12,6 +12,15 @@ type Statement interface {
 	Place() api.Place
 }
 
+// Nest is a statement with blocks: a Choose, a Loop, an If or a While.
+type Nest interface {
+	Statement
+	// Bodies answers the statements of each block, for the layers above, in lists of their own.
+	Bodies() [][]Statement
+	// With answers the same statement with these in its blocks, for the layers above: of each block its statements, in the blocks' order.
+	With(bodies [][]Statement) Statement
+}
+
 // Set makes a variable the value of an expression.
 type Set struct {
 	spot
@@ -78,7 +87,6 @@ type blocks []block
 
 func (b blocks) Place() api.Place { return b[0].at }
 
-// Bodies answers the statements of each block, for the layers above, in lists of their own.
 func (b blocks) Bodies() [][]Statement {
 	var out [][]Statement
 	for _, one := range b {
@@ -86,3 +94,20 @@ func (b blocks) Bodies() [][]Statement {
 	}
 	return out
 }
+
+// with answers the same blocks with other statements in them.
+func (b blocks) with(bodies [][]Statement) blocks {
+	out := slices.Clone(b)
+	for i := range min(len(out), len(bodies)) {
+		out[i].body = slices.Clone(bodies[i])
+	}
+	return out
+}
+
+func (c Choose) With(bodies [][]Statement) Statement { return Choose{c.with(bodies)} }
+
+func (l Loop) With(bodies [][]Statement) Statement { return Loop{l.with(bodies)} }
+
+func (i If) With(bodies [][]Statement) Statement { return If{i.When, i.with(bodies)} }
+
+func (w While) With(bodies [][]Statement) Statement { return While{w.When, w.with(bodies)} }
