@@ -8,6 +8,7 @@ import (
 	"rafter/api"
 	"rafter/back"
 	"rafter/graph"
+	"rafter/sketch"
 )
 
 // loop is the program of the chapter's examples: points 0, 1 (the head), 2, 3, 4 (the block's end), 5 (the Exit).
@@ -246,7 +247,7 @@ func TestMost(t *testing.T) { // P16.7: as many needs and looks as there may be
 	var text strings.Builder
 	text.WriteString("vars a, b, c, d, e, f, g, h; loop { ")
 	for i := range api.MaxVars - 1 { // two neighbours change places
-		a, b := letters[i:i+1], letters[i+1:i+2]
+		a, b := sketch.Letters[i:i+1], sketch.Letters[i+1:i+2]
 		text.WriteString(strings.NewReplacer("x", a, "y", b).Replace("choose { x := x + y; y := x - y; x := x - y; } or { } "))
 	}
 	text.WriteString("}")

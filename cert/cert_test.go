@@ -7,6 +7,7 @@ import (
 	"rafter/api"
 	"rafter/cert"
 	"rafter/graph"
+	"rafter/sketch"
 	"rafter/solver"
 )
 
@@ -269,7 +270,7 @@ func TestLargest(t *testing.T) { // P15.5: as many points and variables as there
 	text := "vars a, b, c, d, e, f, g, h; loop { "
 	for i := range 40 {
 		v := i % api.MaxVars
-		text += letters[v:v+1] + " := 4294967297 * " + letters[v:v+1] + " + " + letters[(v+3)%8:(v+3)%8+1] + "; "
+		text += sketch.Letters[v:v+1] + " := 4294967297 * " + sketch.Letters[v:v+1] + " + " + sketch.Letters[(v+3)%8:(v+3)%8+1] + "; "
 	}
 	for range api.MaxPoints - 4 - 40 {
 		text += "skip; "

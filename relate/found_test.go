@@ -9,6 +9,7 @@ import (
 	"rafter/api"
 	"rafter/graph"
 	"rafter/relate"
+	"rafter/sketch"
 )
 
 func TestExamples(t *testing.T) { // the chapter's
@@ -155,7 +156,7 @@ func turning() string {
 	var text strings.Builder
 	text.WriteString("vars a, b, c, d, e, f, g, h; loop { ")
 	for i := range api.MaxVars {
-		name := letters[i : i+1]
+		name := sketch.Letters[i : i+1]
 		fmt.Fprintf(&text, "%s := %d * %s; ", name, 2*i+3, name)
 	}
 	text.WriteString(strings.Repeat("skip; ", api.MaxPoints-12) + "}")

@@ -10,6 +10,7 @@ import (
 	"rafter/lang"
 	"rafter/machine"
 	"rafter/relate"
+	"rafter/sketch"
 	"rafter/solver"
 )
 
@@ -18,7 +19,7 @@ func twin(text string, vars int) (*graph.Graph, bool) {
 	head, body, _ := strings.Cut(text, ";")
 	var copies strings.Builder
 	for v := range vars {
-		name := letters[v : v+1]
+		name := sketch.Letters[v : v+1]
 		head += ", " + strings.ToUpper(name) + " = 0"
 		copies.WriteString(strings.ToUpper(name) + " := " + name + "; ")
 	}

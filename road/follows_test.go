@@ -8,6 +8,7 @@ import (
 	"rafter/api"
 	"rafter/machine"
 	"rafter/road"
+	"rafter/sketch"
 	"rafter/solver"
 )
 
@@ -102,7 +103,7 @@ func handed() string {
 	var out strings.Builder
 	out.WriteString("vars a = 0, b = 0, c = 0, d = 0, e = 0, f = 0, g = 0, h = 0; loop { ")
 	for v := api.MaxVars - 1; v > 0; v-- {
-		fmt.Fprintf(&out, "%c := %c; ", letters[v], letters[v-1])
+		fmt.Fprintf(&out, "%c := %c; ", sketch.Letters[v], sketch.Letters[v-1])
 	}
 	out.WriteString("a := 2 * a + 1; ")
 	out.WriteString(strings.Repeat("skip; ", api.MaxPoints-5-api.MaxVars))

@@ -7,6 +7,7 @@ import (
 
 	"rafter/api"
 	"rafter/graph"
+	"rafter/sketch"
 	"rafter/solver"
 )
 
@@ -145,7 +146,7 @@ func TestSlowGrowth(t *testing.T) { // P12.2: one dimension a round, with long n
 	var text strings.Builder
 	text.WriteString("vars a = 3, b = 5, c = 7, d = 11, e = 13, f = 17, g = 19, h = 23; loop { ")
 	for i := range api.MaxVars {
-		name := letters[i : i+1]
+		name := sketch.Letters[i : i+1]
 		fmt.Fprintf(&text, "%s := %s * %s; ", name, power(104+uint(i), int64(2*i+1)), name)
 	}
 	text.WriteString(strings.Repeat("skip; ", 50) + "}")
